@@ -1,0 +1,1 @@
+"""Rootcourt: exact numbers told as roots."""
