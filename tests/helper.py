@@ -1,6 +1,7 @@
 """What several test files need: samples, and a reckoning of another make to compare with."""
 
 from fractions import Fraction
+from math import gcd, lcm
 from random import Random
 
 
@@ -88,3 +89,75 @@ def multiplied(*many):
 
 def value_at(one, point):
     return sum((weight * Fraction(point) ** i for i, weight in enumerate(one)), Fraction(0))
+
+
+def divided(one, other):
+    """Quotient and rest with fractions as weights."""
+    rest = [Fraction(weight) for weight in one]
+    quotient = [Fraction(0)] * max(len(one) - len(other) + 1, 0)
+    for place in reversed(range(len(quotient))):
+        quotient[place] = rest[place + len(other) - 1] / other[-1]
+        for further, weight in enumerate(other):
+            rest[place + further] -= quotient[place] * weight
+    return trimmed(quotient), trimmed(rest)
+
+
+def made_plain(one):
+    """The plain polynomial that is a number of times this one, fractions among its weights or not."""
+    if not one:
+        return ()
+    bottom = lcm(*[Fraction(weight).denominator for weight in one])
+    weights = [int(weight * bottom) for weight in one]
+    shared = gcd(*weights) * (1 if weights[-1] > 0 else -1)
+    return tuple(weight // shared for weight in weights)
+
+
+def common_part(one, other):
+    """By Euclid's way with fractions."""
+    while other:
+        one, other = other, made_plain(divided(one, other)[1])
+    return made_plain(one)
+
+
+def slope(one):
+    return trimmed(place * weight for place, weight in enumerate(one))[1:]
+
+
+def sturm_rows(one):
+    rows = [one, slope(one)]
+    while rows[-1]:
+        rows.append(tuple(-weight for weight in divided(rows[-2], rows[-1])[1]))
+    return rows[:-1]
+
+
+def roots_below(one, point):
+    """How many real roots, each counted once, a polynomial has up to a point that is none."""
+    rows = sturm_rows(one)
+    at_start = [row[-1] * (-1) ** (len(row) - 1) for row in rows]
+    return turns(at_start) - turns([value_at(row, point) for row in rows])
+
+
+def turns(row):
+    signs = [weight > 0 for weight in row if weight != 0]
+    return sum(1 for left, right in zip(signs, signs[1:]) if left != right)
+
+
+def spoiled(paper):
+    """Things that differ from a paper in one place alone, each so that it isn't right any more."""
+    found = [list(paper), paper[:-1], paper[1:], paper + ((),), paper + (1,), ((),) + paper, (), (paper,), {0: paper}]
+    for place, thing in enumerate(paper):
+        for other in spoiled_things(thing):
+            found.append(paper[:place] + (other,) + paper[place + 1:])
+    return found
+
+
+def spoiled_things(thing):
+    found = [None, "", "1", True, False, 1.5, Odd(), [thing], (thing,), (None,), (True,), (1.0,)]
+    if isinstance(thing, int):
+        return found + [0, str(thing), float(thing), thing + 1 if thing != -1 else 7, -thing]
+    found += [list(thing), thing + (0,), thing + (1,), thing + (False,)]
+    for place, weight in enumerate(thing):
+        found.append(trimmed(thing[:place] + (weight + 1,) + thing[place + 1:]))
+        found.append(thing[:place] + (str(weight),) + thing[place + 1:])
+        found.append(thing[:place] + (float(weight % 1000),) + thing[place + 1:])
+    return found
