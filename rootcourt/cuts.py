@@ -113,8 +113,7 @@ def nearer(p, stretch):
         return None
     width = minus(hi, lo)
     near = (plus(lo, times(width, fraction(first, cells))), plus(lo, times(width, fraction(last, cells))))
-    if sign_at(p, near[0]) == 0 or sign_at(p, near[1]) == 0:
-        return None
+    # A root at one of its ends would be lacking among the changes: so there is none.
     return near if changes(between(p, near[0], near[1])) == many else None
 
 

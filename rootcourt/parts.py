@@ -83,12 +83,12 @@ def shared_right(one, other, paper):
     return p_plus(p_times(a, one), p_times(b, other)) == scaled(g, c)
 
 
-# Rows are tuples of polynomials. Each new row is made of the two ahead of it so
-# that its first polynomial is of lesser degree; told is the last row whose first
-# polynomial isn't nought. What is so of the sums of the first two rows' columns,
-# such as a times one and b times other, stays so of all. By the rule of the
-# subresultants each row is divided by a number that is known to divide it: the
-# weights grow only evenly, and no divisors of great numbers are sought.
+# Euclid's way, by rows of polynomials: each new row is a sum of multiples of the two
+# ahead of it, so made that its first polynomial is of lesser degree than theirs. Told
+# is the last row whose first one isn't nought. Where the rows begin with (one, 1, 0)
+# and (other, 0, 1), each row says how its first one is made of one and other.
+# By the rule of the subresultants each row is divided by a number that is known to
+# divide it: so the weights grow evenly, and no divisors of great numbers are sought.
 def last_row(first, second):
     if degree(first[0]) < degree(second[0]):
         return last_row(second, first)

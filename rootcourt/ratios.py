@@ -15,7 +15,7 @@ def is_fraction(thing):
 
 def fraction(top, bottom):
     if bottom == 0:
-        raise NoPart("a fraction's bottom isn't 0")
+        raise NoPart("nothing is parted by 0")
     shared = divisor(top, bottom)
     if bottom < 0:
         shared = -shared
@@ -35,8 +35,6 @@ def times(one, other):
 
 
 def over(one, other):
-    if other[0] == 0:
-        raise NoPart("nothing is parted by the fraction 0")
     return fraction(one[0] * other[1], one[1] * other[0])
 
 

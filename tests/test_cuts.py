@@ -21,7 +21,8 @@ def near_pair(size, great):
 
 
 def free_samples():
-    yield from ((1,), (-7,), (0, 1), (5, -3), (-2, 0, 1), (2, 0, -4), (1, 0, 1), (0, -1, 0, 1), (1, 1, 1, 1, 1))
+    yield from ((1,), (-7,), (0, 1), (5, -3), (-2, 0, 1), (2, 0, -4), (1, 0, 1), (0, -1, 0, 1), (1, 1, 1, 1, 1),
+                (-1, 0, 0, 0, 1))
     yield multiplied(*[linear(root) for root in range(1, 21)])
     yield multiplied(*[linear(Fraction(root, 7)) for root in range(-9, 9)])
     yield multiplied(*[linear(10 ** power) for power in range(0, 60, 6)])

@@ -144,6 +144,8 @@ class FreeRight(unittest.TestCase):
         self.assertIs(free_right((0, 0, 1), ((0, 0, 1), (1,), 1, (0, 0, 1), (), (), 1)), False)
         self.assertIs(free_right((0, -1, 1), ((0, 1), (-1, 1), 1, (), (), (1,), 1)), False)
         self.assertIs(free_right((0, -1, 1), ((0, 1), (-1, 1), 0, (), (), (1,), 1)), False)
+        self.assertIs(free_right((0, 1), ((1,), (0, 1), 0, (), (1,), (), 1)), False)
+        self.assertIs(free_right((0, 1), ((1,), (0, 1), 1, (), (1,), (), 1)), False)
 
     def test_f_not_plain(self):
         self.assertIs(free_right((2, 2), ((1, 1), (2,), 2, (1,), (), (1,), 1)), True)
