@@ -4,6 +4,9 @@ from rootcourt.errors import NoPart
 from rootcourt.polys import degree, is_poly, p_minus, p_plus, p_times, poly, raised, scaled, whole_power
 from rootcourt.whole import divisor, divisor_of, is_whole
 
+# 2 ** 61 - 1: any prime would do, a great one seldom hides that two have no common part.
+PRIME = 2305843009213693951
+
 
 def content(one):
     return divisor_of(one)
@@ -61,7 +64,34 @@ def long_division(one, other, scaling):
 
 
 def shared(one, other):
+    if surely_apart(one, other):
+        return (1,)
     return plain(last_row((one,), (other,))[0])
+
+
+# True only where no polynomial of degree 1 or more divides both. A common part keeps
+# its degree in the remainders by a prime that doesn't divide a last weight: so where
+# the remainders have none, which is soon seen, there is none.
+def surely_apart(one, other):
+    if one == () or other == () or one[-1] % PRIME == 0:
+        return False
+    first = by_prime(one)
+    second = by_prime(other)
+    while degree(second) > 0:
+        first, second = second, rest_by_prime(first, second)
+    return degree(second) == 0
+
+
+def by_prime(weights):
+    return poly([weight % PRIME for weight in weights])
+
+
+def rest_by_prime(one, other):
+    rest = one
+    while len(rest) >= len(other):
+        term = raised((rest[-1],), len(rest) - len(other))
+        rest = by_prime(p_minus(scaled(rest, other[-1]), p_times(term, other)))
+    return rest
 
 
 def shared_paper(one, other):

@@ -161,3 +161,61 @@ def spoiled_things(thing):
         found.append(thing[:place] + (str(weight),) + thing[place + 1:])
         found.append(thing[:place] + (float(weight % 1000),) + thing[place + 1:])
     return found
+
+
+def linear(number):
+    """The plain polynomial of degree 1 that is 0 at a fraction."""
+    return (-Fraction(number).numerator, Fraction(number).denominator)
+
+
+def joined(one, other):
+    """The plain polynomial with the roots of both, each once, of two free ones."""
+    return made_plain(divided(multiplied(one, other), common_part(one, other))[0])
+
+
+def squeezed(number, width):
+    """Two of Python's fractions, less than a width apart, about a number: by halving alone."""
+    p, lo, hi = number[0], meant(number[1]), meant(number[2])
+    while hi - lo >= width:
+        amid = (lo + hi) / 2
+        here = value_at(p, amid)
+        if here == 0:
+            return amid, amid
+        if (here > 0) == (value_at(p, lo) > 0):
+            lo = amid
+        else:
+            hi = amid
+    return lo, hi
+
+
+def rank(number, roots):
+    """How many of the real roots of a free polynomial lie below a number that is one of them."""
+    if number[1] == number[2]:
+        lo = hi = meant(number[1])
+    else:
+        lo, hi = meant(number[1]), meant(number[2])
+    while lo < hi:
+        if value_at(roots, lo) != 0 and value_at(roots, hi) != 0 and roots_below(roots, hi) - roots_below(roots, lo) == 1:
+            return roots_below(roots, lo)
+        lo, hi = squeezed(number, (hi - lo) / 2 if lo < hi else 1)
+    rest = divided(roots, linear(lo))[0]
+    return roots_below(rest, lo) if len(rest) > 1 else 0
+
+
+def order_by_rank(one, other):
+    roots = joined(one[0], other[0])
+    left, right = rank(one, roots), rank(other, roots)
+    return (left > right) - (left < right)
+
+
+def point(number):
+    """A fraction's number told as a point."""
+    return (linear(number), told(number), told(number))
+
+
+def stretch(p, lo, hi):
+    return (p, told(Fraction(lo)), told(Fraction(hi)))
+
+
+ROOT_TWO = stretch((-2, 0, 1), 1, 2)
+"""The square root of 2."""

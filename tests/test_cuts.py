@@ -3,16 +3,12 @@ from fractions import Fraction
 
 from rootcourt.cuts import cuts_of, roots_of, roots_right
 from rootcourt.errors import NoFree
-from tests.helper import (added, anything, common_part, made_plain, meant, multiplied, roots_below, slope, some_poly,
-                          some_whole, source, told, turns, value_at)
+from tests.helper import (added, anything, common_part, linear, made_plain, meant, multiplied, roots_below, slope,
+                          some_poly, some_whole, source, told, turns, value_at)
 from tests.test_changes import seen, seen_within
 
 GREAT = 10 ** 70 + 9
 TWICE = multiplied((-2,), (-1, 1), (-1, 1), (2, 3))
-
-
-def linear(number):
-    return (-Fraction(number).numerator, Fraction(number).denominator)
 
 
 def near_pair(size, great):

@@ -169,6 +169,18 @@ class Shared(unittest.TestCase):
         self.assertEqual(shared(one, other), multiplied((-1, 1), (-1, 1), (1, 2)))
         self.assertEqual(shared(other, one), multiplied((-1, 1), (-1, 1), (1, 2)))
 
+    def test_remainders_by_a_prime_mislead_nobody(self):
+        prime = 2 ** 61 - 1
+        part = (1, 3, prime)
+        for one, other in (((2, 1), (3, 1)), ((2, prime), (3, 1)), ((2, 1), (3, prime)), ((prime,), (5, 1)), ((1,), (1,))):
+            self.assertEqual(shared(multiplied(part, one), multiplied(part, other)), part)
+            self.assertEqual(shared(one, other), (1,))
+        self.assertEqual(shared((0, 1), (prime, 1)), (1,))
+        self.assertEqual(shared((prime, prime), (prime, 2 * prime)), (1,))
+        self.assertEqual(shared((prime, prime), (-prime, 0, prime)), (1, 1))
+        self.assertEqual(shared((1, prime), (1, prime, prime)), (1,))
+        self.assertEqual(shared((prime,), (1, 1)), (1,))
+
     def test_the_part_is_plain(self):
         self.assertEqual(shared((-6, 0, 6), (-8, 8)), (-1, 1))
         self.assertEqual(shared((6, 0, -6), (8, -8)), (-1, 1))
