@@ -1,9 +1,8 @@
 """The order of two numbers, and the sign of a polynomial at a number, with papers."""
 
 from rootcourt.changes import between, changes
-from rootcourt.numbers import (
-    beside, has_turn, is_point, is_wider, middle, narrower, span_hi, span_lo, span_of, stretch_of
-)
+from rootcourt.numbers import beside, has_turn, is_point, middle
+from rootcourt.numbers import is_wider, narrower, span_hi, span_lo, span_of, stretch_of
 from rootcourt.parts import shared, whole_part
 from rootcourt.polys import is_poly, p_times, sign_at
 from rootcourt.ratios import is_fraction, less

@@ -1,8 +1,7 @@
 """A name taken out of two forms: a sum of multiples of both that is without it."""
 
-from rootcourt.forms import (
-    ONE, f_minus, f_plus, f_times, greatest_power, is_form, most, name_power, packed, place_of, unpacked, without
-)
+from rootcourt.forms import ONE, f_minus, f_plus, f_times, greatest_power, is_form
+from rootcourt.forms import most, name_power, packed, place_of, unpacked, without
 
 
 def taken_out(f, g, name):

@@ -219,3 +219,40 @@ def stretch(p, lo, hi):
 
 ROOT_TWO = stretch((-2, 0, 1), 1, 2)
 """The square root of 2."""
+
+
+def companion(p):
+    """The matrix, with Python's fractions, whose characteristic polynomial has the roots of p."""
+    size = len(p) - 1
+    rows = [[Fraction(int(column == row - 1)) for column in range(size)] for row in range(size)]
+    for row in range(size):
+        rows[row][size - 1] -= Fraction(p[row], p[-1])
+    return rows
+
+
+def spread_matrix(one, other, deed):
+    """Of two matrices, the one whose characteristic roots are all sums, or all products, of theirs."""
+    cells = [(i, k) for i in range(len(one)) for k in range(len(other))]
+    if deed == "sum":
+        return [[one[i][j] * (k == m) + other[k][m] * (i == j) for j, m in cells] for i, k in cells]
+    return [[one[i][j] * other[k][m] for j, m in cells] for i, k in cells]
+
+
+def characteristic(rows):
+    """The characteristic polynomial, by the way of Faddeev and LeVerrier."""
+    size = len(rows)
+    columns = range(size)
+    weights = [Fraction(1)]
+    held = [[Fraction(int(i == j)) for j in columns] for i in columns]
+    for step in range(1, size + 1):
+        held = [[sum((row[k] * held[k][j] for k in columns if row[k]), Fraction(0)) for j in columns] for row in rows]
+        weights.append(-sum(held[i][i] for i in columns) / step)
+        for i in columns:
+            held[i][i] += weights[-1]
+    return tuple(reversed(weights))
+
+
+def paired(p, q, deed):
+    """The plain free polynomial whose roots are all sums, or all products, of a root of p and one of q."""
+    full = made_plain(characteristic(spread_matrix(companion(p), companion(q), deed)))
+    return made_plain(divided(full, common_part(full, slope(full)))[0])

@@ -197,6 +197,16 @@ class Language(unittest.TestCase):
                 if isinstance(node, ast.Attribute) and isinstance(node.ctx, ast.Load):
                     self.assertTrue(node.attr in OWN_METHODS or node.attr in TWO_UNDERSCORES, node.attr)
 
+    def test_keywords(self):
+        allowed = {"sorted": ("key", "reverse"), "min": ("key", "default"), "max": ("key", "default"),
+                   "sum": ("start",), "enumerate": ("start",), "zip": ("strict",)}
+        for path, tree in self.each():
+            for node in ast.walk(tree):
+                if isinstance(node, ast.Call):
+                    self.assertFalse([one for one in node.args if isinstance(one, ast.Starred)], node.lineno)
+                    for keyword in node.keywords:
+                        self.assertIn(keyword.arg, allowed.get(getattr(node.func, "id", ""), ()), node.lineno)
+
     def test_walked_at_once(self):
         for path, tree in self.each():
             parents = parents_of(tree)

@@ -144,6 +144,14 @@ class Order(unittest.TestCase):
                 self.assertIs(order_right(one, other, paper), True)
                 self.assertEqual((beside(a, paper[1]), beside(b, paper[1])), (-1, 1))
 
+    def test_a_root_that_is_the_middle_of_its_stretch(self):
+        # The straight line between the values at the ends leads far from the root.
+        nought = stretch(multiplied((0, 1), (2, 1), (3, 1), (4, 1), (5, 1)), -1, 1)
+        for r, expected in ((Fraction(1, 10 ** 9), -1), (Fraction(-1, 10 ** 9), 1), (Fraction(0), 0)):
+            self.assertEqual(order(nought, point(r)), expected)
+            self.assertEqual(order(nought, stretch((-r.numerator, r.denominator), -1, 1)), expected)
+            self.assertEqual(sign_of((-r.numerator, r.denominator), nought), expected)
+
     def test_the_greatest_sizes_promised(self):
         random = source(71)
         weights = tuple(random.randint(-10 ** 399, 10 ** 399) for place in range(19))
@@ -230,6 +238,9 @@ class OrderRight(unittest.TestCase):
         self.assertIs(order_right(wide, point(1), ("same", (-1, 1), (-3, 1), (1,))), True)
         self.assertIs(order_right(point(3), wide, ("same", (-3, 1), (1,), (-1, 1))), False)
         self.assertIs(order_right(wide, point(3), ("same", (-3, 1), (-1, 1), (1,))), False)
+        right = stretch(whole, 2, 4)
+        self.assertIs(order_right(point(1), right, ("same", (-1, 1), (1,), (-3, 1))), False)
+        self.assertIs(order_right(right, point(1), ("same", (-1, 1), (-3, 1), (1,))), False)
         self.assertIs(order_right(point(1), wide, ("same", (1,), (-1, 1), whole)), False)
         self.assertIs(order_right(point(1), point(1), ("same", (-1, 1), (1,), (1,))), True)
         self.assertIs(order_right(point(1), point(1), ("same", (1,), (-1, 1), (-1, 1))), False)
@@ -257,8 +268,9 @@ class OrderRight(unittest.TestCase):
 
     def test_other_words_and_shapes(self):
         for a, b in the_same_numbers()[:6] + unlike_numbers()[:6]:
-            for paper in spoiled_words(order_paper(a, b)):
-                self.assertIs(order_right(a, b, paper), False)
+            for one, other in ((a, b), (b, a)):
+                for paper in spoiled_words(order_paper(one, other)):
+                    self.assertIs(order_right(one, other, paper), False)
 
     def test_anything_at_all(self):
         for thing in anything() + [("less", None), ("same",) * 4, (Odd(), (1, 1)), ("less", Odd())]:
