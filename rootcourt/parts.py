@@ -1,6 +1,7 @@
 """Polynomials parted by one another, and the greatest common part of two."""
 
 from rootcourt.errors import NoPart
+from rootcourt.modular import m_shared
 from rootcourt.polys import degree, is_poly, p_minus, p_plus, p_times, poly, raised, scaled, whole_power
 from rootcourt.whole import divisor, divisor_of, is_whole
 
@@ -75,23 +76,7 @@ def shared(one, other):
 def surely_apart(one, other):
     if one == () or other == () or one[-1] % PRIME == 0:
         return False
-    first = by_prime(one)
-    second = by_prime(other)
-    while degree(second) > 0:
-        first, second = second, rest_by_prime(first, second)
-    return degree(second) == 0
-
-
-def by_prime(weights):
-    return poly([weight % PRIME for weight in weights])
-
-
-def rest_by_prime(one, other):
-    rest = one
-    while len(rest) >= len(other):
-        term = raised((rest[-1],), len(rest) - len(other))
-        rest = by_prime(p_minus(scaled(rest, other[-1]), p_times(term, other)))
-    return rest
+    return degree(m_shared(one, other, PRIME)) == 0
 
 
 def shared_paper(one, other):

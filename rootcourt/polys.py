@@ -52,17 +52,22 @@ def scaled(one, factor):
 
 
 def power(one, many):
-    product = (1,)
+    return repeated((1,), one, many, p_times)
+
+
+# What comes of start and so many times one by a product of any kind.
+def repeated(start, one, many, product):
+    found = start
     square = one
     left = many
     while left > 0:
         if left % 2 == 1:
-            product = p_times(product, square)
+            found = product(found, square)
         left = left // 2
         # The square behind the last one needed would be by far the costliest.
         if left > 0:
-            square = p_times(square, square)
-    return product
+            square = product(square, square)
+    return found
 
 
 def whole_power(number, many):

@@ -55,8 +55,10 @@ def imports_of(tree):
 
 
 def bound_in(function):
-    names = [argument.arg for argument in function.args.args]
+    names = []
     for node in ast.walk(function):
+        if isinstance(node, ast.arg):
+            names.append(node.arg)
         if isinstance(node, ast.Name) and isinstance(node.ctx, ast.Store):
             names.append(node.id)
     return names
