@@ -67,10 +67,10 @@ def parts_of_size(f, size, t):
     return parts_of_size(part, size, t) + parts_of_size(other, size, t)
 
 
-# A polynomial that is 0 by some parts of f and, at some turn, not by all. By each part
-# the power is 1, -1 or 0 and the sum of turned ones 1 or 0; all that could be tried is
-# tried in time, and of the sums those of the powers of x are enough, as sums of things
-# are sums of theirs.
+# At some turn this is 0 by some parts of f and not by the others. By each part the power
+# of a trial is 1, -1 or 0, and in time every polynomial is tried. By 2 such a power says
+# nothing; there the sum of a trial's turned ones is 0 or 1, and the powers of x are enough
+# to try, as a sum of trials has the sum of theirs.
 def parting(f, size, t, turn):
     if t == 2:
         return turned_sum(raised((1,), turn), f, size)

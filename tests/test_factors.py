@@ -290,6 +290,9 @@ class PartPapers(unittest.TestCase):
         parts = paper_by(f, 17, 4)[2]
         for other in (parts[0][0] + m, parts[0][0] - m, -1, m, parts[0][0] + 1, parts[0][0] + 17, 0):
             self.refused(f, (17, 4, [(other, 1)] + parts[1:]))
+        f = (1, 0, 1)
+        self.let_by(f, (31, 1, [(1, 0, 1)]))
+        self.refused(f, (31, 1, [(1, 31, 1)]))
         f = (1, 1, 1)
         self.let_by(f, (29, 1, [(1, 1, 1)]))
         self.refused(f, (29, 1, [(30, 1, 1)]))

@@ -64,6 +64,15 @@ def bound_in(function):
     return names
 
 
+def own_attributes(tree):
+    """The methods of a file's classes, and the values that they give to their objects."""
+    names = {node.attr for node in ast.walk(tree) if isinstance(node, ast.Attribute) and isinstance(node.ctx, ast.Store)}
+    for node in ast.walk(tree):
+        if isinstance(node, ast.ClassDef):
+            names |= {inner.name for inner in node.body if isinstance(inner, ast.FunctionDef)}
+    return names
+
+
 def parents_of(tree):
     return {id(child): node for node in ast.walk(tree) for child in ast.iter_child_nodes(node)}
 
@@ -195,9 +204,11 @@ class Language(unittest.TestCase):
                 for node in ast.walk(function):
                     if isinstance(node, ast.Name) and isinstance(node.ctx, ast.Load):
                         self.assertTrue(node.id in bound or node.id in top or node.id in OWN_NAMES, node.id)
+            own = own_attributes(tree)
+            self.assertFalse(own & OWN_METHODS)
             for node in ast.walk(tree):
                 if isinstance(node, ast.Attribute) and isinstance(node.ctx, ast.Load):
-                    self.assertTrue(node.attr in OWN_METHODS or node.attr in TWO_UNDERSCORES, node.attr)
+                    self.assertTrue(node.attr in OWN_METHODS | TWO_UNDERSCORES | own, node.attr)
 
     def test_keywords(self):
         allowed = {"sorted": ("key", "reverse"), "min": ("key", "default"), "max": ("key", "default"),
